@@ -1,0 +1,1 @@
+"""Answer questions over stores of far pages, reading little more than anybody must."""

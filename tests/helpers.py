@@ -4,6 +4,11 @@ import copy
 import itertools
 import random
 
+from fewfetches.boxes import Box
+from fewfetches.layers import Layer
+from fewfetches.pages import Page, slabs_of
+from fewfetches.stores import Table
+
 # each error class of the interface with its attributes
 ERRORS = {
     "BadWidths": (), "BadRow": ("row",), "BadBox": ("what", "at"), "UnlikeBoxes": (), "BadColumn": ("column",),
@@ -121,3 +126,57 @@ def random_parting(chance, rows, most):
 def random_marks(chance, rows, share=0.5):
     """MARKS of some of the rows."""
     return tuple((row, chance.choice(["put", "gone"])) for row in rows if chance.random() < share)
+
+
+def plain_cut(kind, rows, marked):
+    """The cut by the words of [4.5]."""
+    many = len(marked)
+    if kind[0] == "split":
+        spans = [max(row[column] for row in marked) - min(row[column] for row in marked) for column in kind[1]]
+        column = kind[1][spans.index(max(spans))]
+        values = sorted(row[column] for row in marked)
+        value = values[many // 2]
+        if value == values[0]:
+            value = [other for other in values if other > value][0]
+        lower = [row for row in rows if row[column] < value]
+    else:
+        columns = kind[1] if kind[0] == "stretch" else range(len(rows[0]))
+        keys = sorted([row[column] for column in columns] for row in marked)
+        lower = [row for row in rows if [row[column] for column in columns] < keys[many // 2]]
+    return tuple(sorted(lower)), tuple(sorted(set(rows) - set(lower)))
+
+
+def all_kinds(widths):
+    """A kind of each word for these widths, and a few more."""
+    columns = tuple(range(len(widths)))
+    rows = rows_of(widths)
+    odd = [row for row in rows if sum(row) % 2]
+    even = [row for row in rows if not sum(row) % 2]
+    places = [[Box(row, [value + 1 for value in row]) for row in lot] for lot in (odd, even) if lot]
+    return [("stretch", columns), ("stretch", columns[::-1]), ("split", columns), ("split", columns[::-1]),
+            ("grid", (2,) * len(widths)), ("grid", (64,) * len(widths)), ("lots", 1), ("lots", 3), ("lots", 4096),
+            ("given", tuple(places))]
+
+
+def page_of(rows, marks=()):
+    """A page of these rows."""
+    return Page(slabs_of(rows), marks)
+
+
+def random_index(chance, widths, marks, most=5):
+    """An index of the widths that no kind built, with these marks."""
+    lots = random_parting(chance, rows_of(widths), most)
+    return tuple(sorted([page_of(lot, [mark for mark in marks if mark[0] in lot]) for lot in lots],
+                        key=lambda page: page.first))
+
+
+def random_layer(chance, widths, many):
+    """A layer of so many indexes."""
+    marks = random_marks(chance, rows_of(widths), chance.choice([0, 0.3, 0.8]))
+    return Layer(widths, [random_index(chance, widths, marks) for _ in range(many)])
+
+
+def random_table(chance, name, widths, layers=None):
+    """A table of one to three layers with one to three indexes each."""
+    many = layers or chance.randint(1, 3)
+    return Table(name, [random_layer(chance, widths, chance.randint(1, 3)) for _ in range(many)])

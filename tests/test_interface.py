@@ -4,6 +4,8 @@ import importlib
 import inspect
 import unittest
 
+from fewfetches.boxes import points_of
+from fewfetches.stores import Store
 from tests.interface import CLASSES, FUNCTIONS, METHODS, PROPERTIES
 
 
@@ -46,8 +48,8 @@ class TestInterface(unittest.TestCase):
             self.assertIsInstance(vars(getattr(home(module), name))[attribute], property, (name, attribute))
 
     def test_generators(self):
-        from fewfetches.boxes import points_of
         self.assertTrue(inspect.isgeneratorfunction(points_of))
+        self.assertTrue(inspect.isgeneratorfunction(Store.each_entry))
 
 
 if __name__ == "__main__":

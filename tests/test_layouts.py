@@ -4,25 +4,7 @@ import unittest
 
 from fewfetches.boxes import Box
 from fewfetches.layouts import check_kind, check_room, cut_rows, first_places, row_key
-from tests.helpers import no_integers, no_sequences, only_tuples, raised, rows_of, seeded, unchanged
-
-
-def plain_cut(kind, rows, marked):
-    """The cut by the words of [4.5]."""
-    many = len(marked)
-    if kind[0] == "split":
-        spans = [max(row[column] for row in marked) - min(row[column] for row in marked) for column in kind[1]]
-        column = kind[1][spans.index(max(spans))]
-        values = sorted(row[column] for row in marked)
-        value = values[many // 2]
-        if value == values[0]:
-            value = [other for other in values if other > value][0]
-        lower = [row for row in rows if row[column] < value]
-    else:
-        columns = kind[1] if kind[0] == "stretch" else range(len(rows[0]))
-        keys = sorted([row[column] for column in columns] for row in marked)
-        lower = [row for row in rows if [row[column] for column in columns] < keys[many // 2]]
-    return tuple(sorted(lower)), tuple(sorted(set(rows) - set(lower)))
+from tests.helpers import no_integers, no_sequences, only_tuples, plain_cut, raised, rows_of, seeded, unchanged
 
 
 class TestCheckKind(unittest.TestCase):

@@ -2,15 +2,8 @@
 
 import unittest
 
-from fewfetches.boxes import Box
-from fewfetches.pages import Page, slabs_of
 from fewfetches.partings import is_finer, marks_of, ordered_pages, page_at, parting_fault
-from tests.helpers import only_tuples, random_marks, random_parting, rows_of, seeded
-
-
-def page_of(rows, marks=()):
-    """A page of these rows."""
-    return Page(slabs_of(rows), marks)
+from tests.helpers import only_tuples, page_of, random_marks, random_parting, rows_of, seeded
 
 
 def plain_fault(widths, lots):

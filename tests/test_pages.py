@@ -172,7 +172,7 @@ class TestPage(unittest.TestCase):
             self.assertEqual(Page([Box((0,) * columns, (1,) * columns)]).rows, ((0,) * columns,))
 
     def test_across(self):
-        for boxes in ([Box((0,), (2,)), Box((1,), (3,))], [Box((0,), (2,))] * 2,
+        for boxes in ([Box((0,), (2,)), Box((1,), (3,))], [Box((0,), (2,))] * 2, [Box((5, 5), (6, 6))] * 2,
                       [Box((0, 0), (2, 2)), Box((5, 5), (6, 6)), Box((1, 1), (2, 3))],
                       [Box((0, 0), (4, 4)), Box((1, 1), (2, 2))]):
             self.assertEqual(raised(Page, boxes), ("BadPage", "across"))

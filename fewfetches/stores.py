@@ -90,6 +90,7 @@ class Store:
         self.shape = tuple([(table.name, table.widths, tuple([len(layer) for layer in table.layers]))
                             for table in self.tables])
         self.told = tuple([table.told for table in self.tables])
+        self._page_names = tuple([(name, layer, index, page.first) for name, layer, index, page in self.each_entry()])
 
     def __eq__(self, other):
         return isinstance(other, Store) and self.tables == other.tables
@@ -102,7 +103,7 @@ class Store:
     @property
     def page_names(self):
         """All page names, ascending."""
-        return tuple([(name, layer, index, page.first) for name, layer, index, page in self.each_entry()])
+        return self._page_names
 
     def table_of(self, name):
         """The table of this name; raises NoTable(name)."""

@@ -63,6 +63,17 @@ class TestLanguage(unittest.TestCase):
             for decorator in node.decorator_list:
                 self.assertIn(ast.unparse(decorator), ("property", "classmethod", "staticmethod"), (name, node.name))
 
+    def test_properties_call_builtins_alone(self):
+        seen = []
+        for name, node in nodes(ast.FunctionDef):
+            if "property" in [ast.unparse(decorator) for decorator in node.decorator_list]:
+                seen.append(node.name)
+                for call in [part for part in ast.walk(node) if isinstance(part, ast.Call)]:
+                    self.assertIn(ast.unparse(call.func), ("tuple", "len", "sorted"), (name, node.name))
+                for part in ast.walk(node):
+                    self.assertNotIsInstance(part, (ast.Assign, ast.AugAssign, ast.Delete), (name, node.name))
+        self.assertIn("page_names", seen)
+
     def test_builtins(self):
         known = set(dir(builtins))
         for name, node in nodes(ast.Name):

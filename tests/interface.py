@@ -37,6 +37,32 @@ FUNCTIONS = {
     ("versions", "first_version"): "(store, kinds, room)",
     ("versions", "version_at"): "(version, number)",
     ("versions", "standing"): "(entries, elder, later)",
+    ("formulas", "all_points"): "(widths)",
+    ("formulas", "row_nodes"): "(question)",
+    ("formulas", "rows_at"): "(question, point)",
+    ("formulas", "formula_worth"): "(question, point, worths)",
+    ("formulas", "point_worth"): "(question, store, point)",
+    ("formulas", "polarity"): "(question, name)",
+    ("formulas", "is_one_way"): "(question)",
+    ("datatext", "data_text"): "(data)",
+    ("datatext", "read_data"): "(text)",
+    ("querytext", "print_query"): "(question)",
+    ("querytext", "read_query"): "(tables, text)",
+    ("knowledge", "find_shape"): "(shape, name)",
+    ("deciding", "unknown_rows"): "(question, known, point)",
+    ("deciding", "first_filling"): "(question, known, point, worth)",
+    ("deciding", "decided"): "(question, known, point)",
+    ("deciding", "hangs_on"): "(question, known, point)",
+    ("kinds", "order_key"): "(question, point)",
+    ("kinds", "is_ahead"): "(question, one, other)",
+    ("kinds", "group_of"): "(question, point)",
+    ("kinds", "groups_of"): "(question)",
+    ("kinds", "walked"): "(question)",
+    ("kinds", "weight_of"): "(question, point)",
+    ("kinds", "answer_of"): "(question, points)",
+    ("kinds", "answer_by"): "(question, worth)",
+    ("kinds", "plain_answer"): "(question, store)",
+    ("kinds", "is_right"): "(question, store, answer)",
 }
 
 METHODS = {
@@ -88,9 +114,24 @@ METHODS = {
     ("questions", "Question", "__init__"): "(self, tables, widths, formula, kind)",
     ("questions", "Question", "of_told"): "(cls, told)",
     ("questions", "Question", "__eq__"): "(self, other)",
+    ("knowledge", "Known", "__init__"): "(self, shape, entries=())",
+    ("knowledge", "Known", "__eq__"): "(self, other)",
+    ("knowledge", "Known", "add"): "(self, entry)",
+    ("knowledge", "Known", "has"): "(self, name, layer, index, row)",
+    ("knowledge", "Known", "page_of"): "(self, name, layer, index, row)",
+    ("knowledge", "Known", "page"): "(self, page_name)",
+    ("knowledge", "Known", "mark"): "(self, name, layer, row)",
+    ("knowledge", "Known", "row_worth"): "(self, name, row)",
+    ("knowledge", "Known", "first_unknown"): "(self, name, row)",
+    ("knowledge", "Known", "pages_for"): "(self, name, row)",
+    ("knowledge", "Known", "twin"): "(self)",
+    ("knowledge", "Known", "with_page"): "(self, entry)",
+    ("knowledge", "Known", "only"): "(self, names)",
+    ("knowledge", "Known", "without"): "(self, names)",
 }
 
-PROPERTIES = [("stores", "Store", "names"), ("stores", "Store", "page_names"), ("versions", "Version", "gone_names")]
+PROPERTIES = [("stores", "Store", "names"), ("stores", "Store", "page_names"), ("versions", "Version", "gone_names"),
+              ("knowledge", "Known", "entries"), ("knowledge", "Known", "names"), ("knowledge", "Known", "many")]
 
 CLASSES = [("errors", "FetchError"), ("boxes", "Box"), ("pages", "Page"), ("layers", "Layer"), ("stores", "Table"),
-           ("stores", "Store"), ("versions", "Version"), ("questions", "Question")]
+           ("stores", "Store"), ("versions", "Version"), ("questions", "Question"), ("knowledge", "Known")]

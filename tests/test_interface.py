@@ -5,6 +5,8 @@ import inspect
 import unittest
 
 from fewfetches.boxes import points_of
+from fewfetches.formulas import all_points
+from fewfetches.kinds import walked
 from fewfetches.stores import Store
 from tests.interface import CLASSES, FUNCTIONS, METHODS, PROPERTIES
 
@@ -48,8 +50,8 @@ class TestInterface(unittest.TestCase):
             self.assertIsInstance(vars(getattr(home(module), name))[attribute], property, (name, attribute))
 
     def test_generators(self):
-        self.assertTrue(inspect.isgeneratorfunction(points_of))
-        self.assertTrue(inspect.isgeneratorfunction(Store.each_entry))
+        for function in (points_of, all_points, walked, Store.each_entry):
+            self.assertTrue(inspect.isgeneratorfunction(function))
 
 
 if __name__ == "__main__":

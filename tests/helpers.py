@@ -36,6 +36,9 @@ def points_in(lows, highs):
 class Odd:
     """An object that is nothing the document tells of."""
 
+    def __deepcopy__(self, memo):
+        return self
+
 
 def no_sequences():
     """Things that are no sequence: no list and no tuple."""

@@ -63,6 +63,21 @@ FUNCTIONS = {
     ("kinds", "answer_by"): "(question, worth)",
     ("kinds", "plain_answer"): "(question, store)",
     ("kinds", "is_right"): "(question, store, answer)",
+    ("relevant", "determined"): "(question, known)",
+    ("relevant", "first_open"): "(question, known)",
+    ("relevant", "counts_open"): "(question, known, point)",
+    ("relevant", "settled_ahead"): "(question, known)",
+    ("relevant", "check_factor"): "(question)",
+    ("settled", "uniform"): "(question, known, box)",
+    ("settled", "reasons"): "(question, known, box)",
+    ("settled", "point_reasons"): "(question, known, point)",
+    ("papers", "paper_of"): "(question, known)",
+    ("papers", "paper_names"): "(paper)",
+    ("judge", "judge_paper"): "(question, paper, known)",
+    ("judge", "lean_paper"): "(question, paper, known)",
+    ("rounds", "round_at"): "(question, known, point)",
+    ("rounds", "next_round"): "(question, known)",
+    ("rounds", "most_pages"): "(question, shape)",
 }
 
 METHODS = {
@@ -128,10 +143,20 @@ METHODS = {
     ("knowledge", "Known", "with_page"): "(self, entry)",
     ("knowledge", "Known", "only"): "(self, names)",
     ("knowledge", "Known", "without"): "(self, names)",
+    ("finder", "Finder", "__init__"): "(self, question)",
+    ("finder", "Finder", "next_open"): "(self, known)",
+    ("finder", "Finder", "lines_for"): "(self, known)",
+    ("papers", "Paper", "__init__"): "(self, lines, answer)",
+    ("papers", "Paper", "of_told"): "(cls, told)",
+    ("papers", "Paper", "__len__"): "(self)",
+    ("papers", "Paper", "__iter__"): "(self)",
+    ("papers", "Paper", "__eq__"): "(self, other)",
 }
 
 PROPERTIES = [("stores", "Store", "names"), ("stores", "Store", "page_names"), ("versions", "Version", "gone_names"),
-              ("knowledge", "Known", "entries"), ("knowledge", "Known", "names"), ("knowledge", "Known", "many")]
+              ("knowledge", "Known", "entries"), ("knowledge", "Known", "names"), ("knowledge", "Known", "many"),
+              ("finder", "Finder", "found")]
 
 CLASSES = [("errors", "FetchError"), ("boxes", "Box"), ("pages", "Page"), ("layers", "Layer"), ("stores", "Table"),
-           ("stores", "Store"), ("versions", "Version"), ("questions", "Question"), ("knowledge", "Known")]
+           ("stores", "Store"), ("versions", "Version"), ("questions", "Question"), ("knowledge", "Known"),
+           ("finder", "Finder"), ("papers", "Paper")]

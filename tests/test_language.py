@@ -83,6 +83,19 @@ class TestLanguage(unittest.TestCase):
         for name, node in nodes(ast.arg):
             self.assertNotIn(node.arg, known, (name, node.lineno))
 
+    def test_no_name_of_a_class_or_an_import_is_given_again(self):
+        for path in FILES:
+            tree = ast.parse(path.read_text())
+            taken = {node.name for node in ast.walk(tree) if isinstance(node, ast.ClassDef)}
+            for node in ast.walk(tree):
+                if isinstance(node, ast.ImportFrom):
+                    taken |= {alias.name for alias in node.names}
+            for node in ast.walk(tree):
+                if isinstance(node, ast.arg):
+                    self.assertNotIn(node.arg, taken, (path.name, node.lineno))
+                if isinstance(node, ast.Name) and isinstance(node.ctx, ast.Store):
+                    self.assertNotIn(node.id, taken, (path.name, node.lineno))
+
     def test_no_generator_expressions(self):
         self.assertEqual([(name, node.lineno) for name, node in nodes(ast.GeneratorExp)], [])
 

@@ -136,6 +136,17 @@ class TestLines(unittest.TestCase):
         question = made(("first", 0, (1,), ()))
         self.check(question, knowing("????"), Finder(question).lines_for(knowing("????")))
 
+    def test_decided_but_not_uniform(self):
+        open_row = ("row", "t", (("num", 3),))
+        formula = ("and", (ROW, open_row, ("not", open_row)))
+        for text in ("????", "pp-?", "p-??"):
+            for kind in (("all",), ("any",), ("first", 1, (1,), ())):
+                self.check(made(kind, formula), knowing(text), Finder(made(kind, formula)).lines_for(knowing(text)))
+        formula = ("and", (ROW, ("or", (open_row, ("not", open_row)))))
+        for kind in (("all",), ("any",), ("first", 1, (1,), ())):
+            question = made(kind, formula, (3,))
+            self.check(question, knowing("p-p?"), Finder(question).lines_for(knowing("p-p?")))
+
     def test_found_changes(self):
         finder = Finder(made(("all",)))
         finder.lines_for(knowing("pp??"))

@@ -190,6 +190,13 @@ class TestJudge(unittest.TestCase):
         self.check(lines, None, ((0,), (3,)), twice)
         self.check([("behind", whole_box((4,)))], None, (), made(("first", 0, (0,), ())))
 
+    def test_behind_answers_in_any_order(self):
+        lines = [("answer", (3,), named(2)), ("answer", (0,), named(0)), ("behind", Box((1,), (3,))), ("join", 1, 2, 0),
+                 ("join", 3, 0, 0)]
+        self.check(lines, None, ((0,),), FIRST)
+        self.check(lines, (2, "behind"), ((0,),), made(("first", 2, (0,), ())))
+        self.check(lines, None, ((3,),), made(("first", 1, (1,), ())))
+
     def test_behind_in_groups(self):
         question = Question((("t", (4,)),), (2, 2), ("row", "t", (("num", 0),)), ("first", 1, (0, 0), (1,)))
         lines = [("answer", (0, 0), named(0)), ("answer", (0, 1), named(0)), ("behind", Box((1, 0), (2, 2))), ("join", 0, 1, 1),

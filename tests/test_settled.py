@@ -119,6 +119,9 @@ class TestByHand(unittest.TestCase):
         formula = ("or", (ROW, ("not", ROW), OPEN))
         known = Known(SHAPE, [("s", 0, 0, page_of([(1,)], []))])
         self.assertEqual(point_reasons(made(formula), known, (1,)), (("s", 0, 0, (1,)),))
+        formula = ("or", (OPEN, ("not", OPEN), ROW, ("row", "t", (("num", 3),)), ("row", "t", (("num", 2),))))
+        known = Known(SHAPE, [("t", layer, 0, page_of([(at,)])) for layer in (0, 1) for at in (3, 1, 2)])
+        self.assertEqual(point_reasons(made(formula), known, (1,)), known.names)
 
     def test_first_settling_part(self):
         pages = [("s", 0, 0, page_of(rows_of((4,)))), ("t", 0, 0, page_of(rows_of((4,)))),

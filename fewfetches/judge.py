@@ -70,8 +70,9 @@ def _line_fault(question, line, known, boxes, answers):
         return None if _is_behind(question, line[1], answers) else "behind"
     if not all([_is_known(name, known) for name in line[2]]):
         return "page"
-    points = list(points_of(_box_of_line(line, boxes)))
-    return None if _all_decided(question, NamedPages(known, line[2]), points, line[0]) else line[0]
+    box = _box_of_line(line, boxes)
+    pages = NamedPages(known, line[2])
+    return None if _all_decided(question, pages, list(points_of(box)), line[0]) else line[0]
 
 
 def _joined(line, boxes):
@@ -112,7 +113,7 @@ def _box_of_line(line, boxes):
 
 def _all_decided(question, pages, points, word):
     """Whether the pages decide each of the points as a line with this word says."""
-    return all([decided(question, pages, point) is (word == "answer") for point in points])
+    return all([decided(question, pages, point) == (word == "answer") for point in points])
 
 
 def _is_behind(question, box, answers):
@@ -159,9 +160,10 @@ def _lean_line(question, line, known):
     """The line as a tuple, without each name that it can do without, tried from the last one."""
     if line[0] != "false" and line[0] != "answer":
         return tuple(line)
+    box = _box_of_line(line, [])
     names = sorted({name for name in line[2]})
     pages = NamedPages(known, names)
-    resting = _points_resting(question, pages, list(points_of(_box_of_line(line, []))))
+    resting = _points_resting(question, pages, list(points_of(box)))
     kept = []
     for name in reversed(names):
         pages.leave_out(name)

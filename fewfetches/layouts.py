@@ -84,7 +84,8 @@ def first_places(kind, widths):
         return tuple([page.rows for page in ordered_pages([Page(place) for place in told])])
     # rows are met in ascending order, and a dict keeps the order in which its keys were added
     lots = {}
-    for row in points_of(whole_box(widths)):
+    box = whole_box(widths)
+    for row in points_of(box):
         lots.setdefault(_lot_key(word, told, widths, row), []).append(row)
     return tuple([tuple(lot) for lot in lots.values()])
 

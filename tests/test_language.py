@@ -96,6 +96,23 @@ class TestLanguage(unittest.TestCase):
                 if isinstance(node, ast.Name) and isinstance(node.ctx, ast.Store):
                     self.assertNotIn(node.id, taken, (path.name, node.lineno))
 
+    def test_is_stands_beside_a_constant(self):
+        for name, node in nodes(ast.Compare):
+            for op, other in zip(node.ops, node.comparators):
+                if isinstance(op, (ast.Is, ast.IsNot)):
+                    self.assertIsInstance(other, ast.Constant, (name, node.lineno))
+                    self.assertIn(repr(other.value), ("None", "True", "False"), (name, node.lineno))
+
+    def test_generators_are_called_with_plain_things(self):
+        made = {node.name for _, node in nodes(ast.FunctionDef)
+                if any(isinstance(part, (ast.Yield, ast.YieldFrom)) for part in ast.walk(node))}
+        self.assertIn("points_of", made)
+        for name, node in nodes(ast.Call):
+            called = getattr(node.func, "id", getattr(node.func, "attr", None))
+            if called in made:
+                for part in node.args:
+                    self.assertIsInstance(part, (ast.Name, ast.Attribute, ast.Constant), (name, node.lineno))
+
     def test_no_generator_expressions(self):
         self.assertEqual([(name, node.lineno) for name, node in nodes(ast.GeneratorExp)], [])
 

@@ -8,7 +8,7 @@ def unknown_rows(question, known, point):
     return tuple([(name, row) for name, row in rows_at(question, point) if known.row_worth(name, row) is None])
 
 
-def _fillings(question, known, point):
+def all_fillings(question, known, point):
     """(unknown rows, the worths of the formula with all their fillings, these with all bits set).
 
     Bit f of the worths stands for filling f: the fillings are numbered in their order, so the first unknown row
@@ -18,12 +18,12 @@ def _fillings(question, known, point):
     full = (1 << (1 << len(unknown))) - 1
     bits = {couple: full if worths[couple] else 0 for couple in worths}
     for at, couple in enumerate(unknown):
-        step = _step(unknown, at)
+        step = step_of(unknown, at)
         bits[couple] = _without_row(full, step) << step
     return unknown, worth_bits(question.formula, point, bits, full), full
 
 
-def _step(unknown, at):
+def step_of(unknown, at):
     """How far apart the numbers of two fillings are that differ in this row alone."""
     return 1 << (len(unknown) - 1 - at)
 
@@ -33,19 +33,25 @@ def _without_row(full, step):
     return full // ((1 << step) + 1)
 
 
+def split_by_row(held, full, step):
+    """The worths with the row of this step out, and with it in: a bit for each filling of the other rows."""
+    out = _without_row(full, step)
+    return held & out, (held >> step) & out
+
+
 def first_filling(question, known, point, worth):
     """The first filling with which the formula has this worth at the point, or None."""
-    unknown, held, full = _fillings(question, known, point)
+    unknown, held, full = all_fillings(question, known, point)
     right = held if worth else full ^ held
     if right == 0:
         return None
     number = (right & -right).bit_length() - 1
-    return tuple([(couple, number & _step(unknown, at) != 0) for at, couple in enumerate(unknown)])
+    return tuple([(couple, number & step_of(unknown, at) != 0) for at, couple in enumerate(unknown)])
 
 
 def decided(question, known, point):
     """True if the formula holds at the point with every filling, False if with none, else None."""
-    _, held, full = _fillings(question, known, point)
+    _, held, full = all_fillings(question, known, point)
     if held == full:
         return True
     return False if held == 0 else None
@@ -53,11 +59,10 @@ def decided(question, known, point):
 
 def hangs_on(question, known, point):
     """The unknown rows whose worth, with some filling of the others, alters that of the formula, ascending."""
-    unknown, held, full = _fillings(question, known, point)
+    unknown, held, full = all_fillings(question, known, point)
     hanging = []
     for at, couple in enumerate(unknown):
-        step = _step(unknown, at)
-        out = _without_row(full, step)
-        if (held >> step) & out != held & out:
+        out, into = split_by_row(held, full, step_of(unknown, at))
+        if out != into:
             hanging.append(couple)
     return tuple(hanging)

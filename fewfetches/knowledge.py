@@ -39,7 +39,7 @@ class Known:
                 for index in range(count):
                     self._holders[(name, layer, index)] = {}
         for entry in entries:
-            self._check(entry)
+            self.check_entry(entry)
             self._take(entry)
 
     def __eq__(self, other):
@@ -62,7 +62,7 @@ class Known:
 
     def add(self, entry):
         """Makes a page known; raises Again(), Foreign()."""
-        self._check(entry)
+        self.check_entry(entry)
         name, layer, index, _ = entry
         # twins share what they know of a layer and an index, so both are made anew ahead of a change
         marks = self._marks[name]
@@ -70,7 +70,7 @@ class Known:
         self._holders[(name, layer, index)] = _copied(self._holders[(name, layer, index)])
         self._take(entry)
 
-    def _check(self, entry):
+    def check_entry(self, entry):
         """Raises Again() if the page is known there, Foreign() if no store holds it beside the known pages."""
         if not is_entry(entry):
             raise Foreign()

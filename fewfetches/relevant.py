@@ -2,7 +2,7 @@
 
 from fewfetches.deciding import decided
 from fewfetches.errors import NoFactor
-from fewfetches.formulas import all_points, is_one_way
+from fewfetches.formulas import is_one_way
 from fewfetches.kinds import answer_of, group_of, walked
 
 
@@ -71,21 +71,22 @@ def settled_ahead(question, known):
 
 def counts_open(question, known, point):
     """Whether the point keeps the answer open."""
-    if decided(question, known, point) is not None:
+    points = list(walked(question))
+    return counts_among(question, points, lambda other: decided(question, known, other), point)
+
+
+def counts_among(question, points, worth, point):
+    """As counts_open, where points are all points in the order of the walk and worth is as for look_through."""
+    if worth(point) is not None:
         return False
     if question.kind[0] == "any":
-        return not any([decided(question, known, other) for other in all_points(question.widths)])
+        return not any([worth(other) for other in points])
     if question.kind[0] != "first":
         return True
-    worths = [decided(question, known, other) for other in _ahead_in_group(question, point)]
-    return None not in worths and worths.count(True) < question.kind[1]
-
-
-def _ahead_in_group(question, point):
-    """The points of the point's group that come before it in the walk."""
     group = group_of(question, point)
-    inside = [other for other in walked(question) if group_of(question, other) == group]
-    return inside[:inside.index(point)]
+    ahead = points[:points.index(point)]
+    worths = [worth(other) for other in ahead if group_of(question, other) == group]
+    return None not in worths and worths.count(True) < question.kind[1]
 
 
 def check_factor(question):

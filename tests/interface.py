@@ -78,6 +78,17 @@ FUNCTIONS = {
     ("rounds", "round_at"): "(question, known, point)",
     ("rounds", "next_round"): "(question, known)",
     ("rounds", "most_pages"): "(question, shape)",
+    ("engine", "run_engine"): "(question, source, known)",
+    ("least", "gaining_pages"): "(question, store, known, point)",
+    ("least", "more_known"): "(store, known, names)",
+    ("least", "least_more"): "(question, store, known, most)",
+    ("least", "spare_pages"): "(question, store, known, order)",
+    ("least", "charge_rounds"): "(question, store, known, names)",
+    ("floors", "floor_of"): "(question, store, known, number)",
+    ("floors", "floor_fault"): "(question, store, known, number, floor)",
+    ("foils", "fill_rows"): "(store, known, fills)",
+    ("foils", "two_stores"): "(question, store, known)",
+    ("foils", "find_foil"): "(question, store, known, answer)",
 }
 
 METHODS = {
@@ -151,12 +162,29 @@ METHODS = {
     ("papers", "Paper", "__len__"): "(self)",
     ("papers", "Paper", "__iter__"): "(self)",
     ("papers", "Paper", "__eq__"): "(self, other)",
+    ("engine", "Run", "__init__"): "(self, rounds, answer, known)",
+    ("engine", "Run", "__eq__"): "(self, other)",
+    ("engine", "Engine", "__init__"): "(self, question, known)",
+    ("engine", "Engine", "next_reads"): "(self)",
+    ("engine", "Engine", "give"): "(self, entry)",
+    ("foils", "Couple", "__init__"): "(self, one, other, point)",
+    ("foils", "Couple", "__eq__"): "(self, other)",
+    ("foes", "Foe", "__init__"): "(self, question, indexes, *, blocks=1)",
+    ("foes", "Foe", "read"): "(self, name, layer, index, row)",
+    ("foes", "Foe", "now_store"): "(self)",
+    ("foes", "Foe", "enough_names"): "(self)",
+    ("needles", "Needle", "__init__"): "(self, question, indexes)",
+    ("needles", "Needle", "read"): "(self, name, layer, index, row)",
+    ("needles", "Needle", "answer_point"): "(self)",
+    ("needles", "Needle", "now_store"): "(self)",
+    ("needles", "Needle", "enough_names"): "(self)",
 }
 
 PROPERTIES = [("stores", "Store", "names"), ("stores", "Store", "page_names"), ("versions", "Version", "gone_names"),
               ("knowledge", "Known", "entries"), ("knowledge", "Known", "names"), ("knowledge", "Known", "many"),
-              ("finder", "Finder", "found")]
+              ("finder", "Finder", "found"), ("engine", "Engine", "told_answer")]
 
 CLASSES = [("errors", "FetchError"), ("boxes", "Box"), ("pages", "Page"), ("layers", "Layer"), ("stores", "Table"),
            ("stores", "Store"), ("versions", "Version"), ("questions", "Question"), ("knowledge", "Known"),
-           ("finder", "Finder"), ("papers", "Paper")]
+           ("finder", "Finder"), ("papers", "Paper"), ("engine", "Run"), ("engine", "Engine"), ("foils", "Couple"),
+           ("foes", "Foe"), ("needles", "Needle")]

@@ -2,10 +2,13 @@
 
 import itertools
 
+from fewfetches.errors import NoFactor
 from fewfetches.knowledge import Known
+from fewfetches.layers import Layer
 from fewfetches.questions import Question
+from fewfetches.relevant import check_factor, determined
 from fewfetches.stores import Store
-from tests.helpers import random_table, rows_of
+from tests.helpers import page_of, random_table, rows_of, seeded
 
 WIDTHS = {"r": (3,), "s": (2, 2), "t": (4,)}
 WORDS = ("all", "first", "count", "sum", "any")
@@ -123,3 +126,63 @@ def filled_store(store, known, worths):
     changes = [(name, known.first_unknown(name, row), row, "put" if worth else "gone")
                for (name, row), worth in sorted(worths.items()) if known.row_worth(name, row) is None]
     return store.with_marks(changes)
+
+
+def laid_layer(widths, marks, indexes):
+    """A layer of these marks (row to mark); each index is told as lists of rows, one for each page."""
+    return Layer(widths, [[page_of(rows, [(row, marks[row]) for row in rows if row in marks]) for rows in lots]
+                          for lots in indexes])
+
+
+def laid_line(marks, *indexes):
+    """A layer of one column: marks is a text with "p" for put, "g" for gone and "-" for no mark in each row, and an
+    index is a text of figures with a "/" between the pages: "01/2"."""
+    told = {(at,): {"p": "put", "g": "gone"}[sign] for at, sign in enumerate(marks) if sign != "-"}
+    return laid_layer((len(marks),), told, [[[(int(sign),) for sign in rows] for rows in index.split("/")]
+                                            for index in indexes])
+
+
+def all_known(store):
+    return Known(store.shape, list(store.each_entry()))
+
+
+def with_names(store, known, names):
+    """The known pages and these of the store, by its entries."""
+    more = known.twin()
+    for entry in store.each_entry():
+        if name_of(entry) in names and name_of(entry) not in known.names:
+            more.add(entry)
+    return more
+
+
+def unknown_names(store, known):
+    return [name for name in store.page_names if name not in known.names]
+
+
+def small_stores(seed, many, kinds=WORDS, shares=(0, 0.3, 0.6)):
+    """Small questions of these kinds, each with a store and some known pages of it."""
+    chance = seeded(seed)
+    for at in range(many):
+        question = random_question(chance, kinds[at % len(kinds)])
+        store = random_store(chance, question, chance.choice([1, 1, 2, None]))
+        yield chance, question, store, some_known(chance, store, chance.choice(shares))
+
+
+def settling_sets(chance, question, store, known, many=2):
+    """Sets of unknown pages that determine the answer, from which pages were left out at random while they did."""
+    for _ in range(many):
+        names = unknown_names(store, known)
+        for name in chance.sample(names, len(names)):
+            fewer = [other for other in names if other != name]
+            if determined(question, with_names(store, known, fewer)) is not None:
+                names = fewer
+        yield names
+
+
+def promised(question):
+    """Whether a factor is promised for the question."""
+    try:
+        check_factor(question)
+    except NoFactor:
+        return False
+    return True

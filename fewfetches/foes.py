@@ -100,13 +100,13 @@ class Foe:
         """The page that holds the row; raises NoTable(name), NoLayer(layer), NoIndex(index), BadRow(row)."""
         checked = checked_read(self.shape, name, layer, index, row)
         if (name, index, checked) not in self._laid:
-            page = self._lay(name, index, checked)
+            page = self._new_page(name, index, checked)
             for held in page.rows:
                 self._laid[(name, index, held)] = page
             self.reads = self.reads + ((name, layer, index, page.first),)
         return self._laid[(name, index, checked)]
 
-    def _lay(self, name, index, row):
+    def _new_page(self, name, index, row):
         """The page that is laid for a row of which no page of this index was returned."""
         if name not in self._asked:
             return marked_page([row], None)

@@ -12,18 +12,9 @@ from fewfetches.rounds import most_pages, next_round
 from fewfetches.stores import Store, Table
 from tests.helpers import Odd, no_sequences, only_tuples, page_of, raised
 from tests.makers import (all_known, laid_line, promised, settling_sets, small_stores)
+from tests.onetable import A, ALL, B, ROW, STORE, TABLES, name
 
-A, B = ("var", 0), ("var", 1)
-TABLES = (("t", (4,)),)
-ROW = ("row", "t", (A,))
-# rows 1 and 2 are in
-STORE = Store([Table("t", [laid_line("-pp-", "01/23", "02/13")])])
-ALL = Question(TABLES, (4,), ROW, ("all",))
 BOTH = Question(TABLES, (4, 4), ("and", (ROW, ("row", "t", (B,)))), ("first", 1, (0, 1), ()))
-
-
-def name(index, row):
-    return "t", 0, index, (row,)
 
 
 def entry(read, store=STORE):

@@ -10,20 +10,9 @@ from fewfetches.relevant import counts_open, first_open
 from fewfetches.stores import Store, Table
 from tests.helpers import Odd, no_sequences, only_tuples, raised, unchanged
 from tests.makers import (all_known, all_points_of, laid_line, promised, small_stores, unknown_names, with_names)
+from tests.onetable import ALL, ANY, COUNT_BOTH, NOTHING, ROW, STORE, TABLES, name
 
-A = ("var", 0)
-ROW = ("row", "t", (A,))
-TABLES = (("t", (4,)),)
-STORE = Store([Table("t", [laid_line("-pp-", "01/23", "02/13")])])
-ALL = Question(TABLES, (4,), ROW, ("all",))
-ANY = Question(TABLES, (4,), ROW, ("any",))
-COUNT_BOTH = Question(TABLES, (4,), ("or", (ROW, ("not", ROW))), ("count",))
 FIRST = Question(TABLES, (4,), ROW, ("first", 2, (1,), ()))
-NOTHING = Known(STORE.shape)
-
-
-def name(index, row):
-    return "t", 0, index, (row,)
 
 
 # behind the page with 0 and 1 of index 0 the points 2 and 3 count, behind that of index 1 the points 1 and 3

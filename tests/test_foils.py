@@ -13,20 +13,9 @@ from fewfetches.stores import Store, Table
 from tests.helpers import raised, rows_of, unchanged
 from tests.makers import (WORDS, all_known, all_points_of, laid_line, plain_rows, promised, small_stores,
                           with_names)
+from tests.onetable import ALL, ANY, A, COUNT_BOTH, NOTHING, ROW, STORE, TABLES, name
 
-A, B = ("var", 0), ("var", 1)
-ROW = ("row", "t", (A,))
-TABLES = (("t", (4,)),)
-STORE = Store([Table("t", [laid_line("-pp-", "01/23", "02/13")])])
-ALL = Question(TABLES, (4,), ROW, ("all",))
-ANY = Question(TABLES, (4,), ROW, ("any",))
-COUNT_BOTH = Question(TABLES, (4,), ("or", (ROW, ("not", ROW))), ("count",))
-NOTHING = Known(STORE.shape)
 LAYERS = Store([Table("t", [laid_line("p-g-", "01/23"), laid_line("ppp-", "02/13", "0/1/2/3")])])
-
-
-def name(index, row):
-    return "t", 0, index, (row,)
 
 
 def places(store):

@@ -14,20 +14,7 @@ from fewfetches.stores import Store, Table
 from tests.helpers import (no_sequences, only_tuples, raised, random_marks, random_parting, rows_of, seeded, unchanged)
 from tests.makers import (WORDS, all_known, all_points_of, laid_layer, laid_line, promised, settling_sets, small_stores,
                           some_known, unknown_names, with_names)
-
-A, B = ("var", 0), ("var", 1)
-ROW = ("row", "t", (A,))
-TABLES = (("t", (4,)),)
-# rows 1 and 2 are in
-STORE = Store([Table("t", [laid_line("-pp-", "01/23", "02/13")])])
-ALL = Question(TABLES, (4,), ROW, ("all",))
-ANY = Question(TABLES, (4,), ROW, ("any",))
-COUNT_BOTH = Question(TABLES, (4,), ("or", (ROW, ("not", ROW))), ("count",))
-NOTHING = Known(STORE.shape)
-
-
-def name(index, row):
-    return "t", 0, index, (row,)
+from tests.onetable import ALL, ANY, B, COUNT_BOTH, NOTHING, ROW, STORE, TABLES, name
 
 
 def wrong_names(store_name=("t", 0, 0, (2,))):
